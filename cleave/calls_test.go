@@ -1,0 +1,151 @@
+package cleave_test
+
+import (
+	"bytes"
+	"math"
+	"reflect"
+	"strings"
+	"sync"
+	"testing"
+	"unsafe"
+
+	"cleave/api"
+	"cleave/cleave"
+)
+
+const lines = "class R = D; class N = A; join R | N; cut R / N | ; join | ;"
+
+func someRules() []string {
+	return []string{"", "join | ;", lines, "class A = 0-D7FF, E000-10FFFF; join ((A*)*)* | ((A+)?)+ bad; cut other | other;", "cut", "cut x|;", strings.Repeat("(", 5000)}
+}
+
+func someTexts() []string {
+	return []string{"", "a", "ab\r\nc\n", "\x00", "\xff\xfe", "\xf0\x9f\x98", "\xed\xa0\x80", "é\U0010FFFF", strings.Repeat("a\xc3", 2000)}
+}
+
+// P1: every call ends, and none panics, also of what Compile and Open gave beside an error.
+func TestNoCallPanics(t *testing.T) {
+	for _, text := range append(someRules(), someTexts()...) {
+		r, _, _ := cleave.Compile(text)
+		r.Delay()
+		for _, full := range []int{math.MinInt, -1, 0, 1, 2, api.MaxFull, api.MaxFull + 1, math.MaxInt} {
+			s, _ := r.Open(full)
+			for _, piece := range someTexts() {
+				r.Cut(piece)
+				s.Write([]byte(piece))
+			}
+			s.Write(nil)
+			s.Close()
+			s.Write([]byte("a"))
+			s.Close()
+		}
+	}
+}
+
+// P1: with an error there are no rules, and its place is within the text.
+func TestCompileAnswersNilWithAnError(t *testing.T) {
+	for _, text := range someTexts()[1:] {
+		r, no, at := cleave.Compile(text)
+		if r != nil || no == api.OK || at < 0 || at > len(text) || no == api.ErrLong && at != 0 {
+			t.Errorf("Compile(%.60q) = rules %v, %d, %d", text, r != nil, no, at)
+		}
+	}
+}
+
+// P2: the bytes behind the text may change when Compile has answered: rules that keep a part of it would change too.
+func TestCompileKeepsNothing(t *testing.T) {
+	b := []byte(lines)
+	r, _, _ := cleave.Compile(unsafe.String(&b[0], len(b)))
+	if string(b) != lines {
+		t.Fatalf("Compile wrote into its text: %q", b)
+	}
+	for i := range b {
+		b[i] = 'x'
+	}
+	fresh, _, _ := cleave.Compile(lines)
+	if r == nil || r == fresh || !reflect.DeepEqual(r, fresh) {
+		t.Errorf("the rules changed with the bytes of their text")
+	}
+	if pointsInto(reflect.ValueOf(r), uintptr(unsafe.Pointer(&b[0])), len(b)) {
+		t.Errorf("the rules keep a part of their text")
+	}
+}
+
+// pointsInto looks for a string or slice of v that stands within n bytes at from.
+func pointsInto(v reflect.Value, from uintptr, n int) bool {
+	within := func(at uintptr) bool { return from <= at && at < from+uintptr(n) }
+	switch v.Kind() {
+	case reflect.String:
+		return v.Len() > 0 && within(uintptr(unsafe.Pointer(unsafe.StringData(v.String()))))
+	case reflect.Pointer:
+		return !v.IsNil() && pointsInto(v.Elem(), from, n)
+	case reflect.Struct:
+		for i := range v.NumField() {
+			if pointsInto(v.Field(i), from, n) {
+				return true
+			}
+		}
+	case reflect.Slice:
+		if within(v.Pointer()) {
+			return true
+		}
+		for i := range v.Len() {
+			if pointsInto(v.Index(i), from, n) {
+				return true
+			}
+		}
+	}
+	return false
+}
+
+// P2: rules do not change, whatever is asked of them and of others.
+func TestRulesDoNotChange(t *testing.T) {
+	r, _, _ := cleave.Compile(lines)
+	for _, text := range someRules() {
+		cleave.Compile(text)
+	}
+	for _, text := range someTexts() {
+		r.Cut(text)
+		r.Delay()
+		s, _ := r.Open(10)
+		s.Write([]byte(text))
+		s.Close()
+	}
+	fresh, _, _ := cleave.Compile(lines)
+	if !reflect.DeepEqual(r, fresh) {
+		t.Errorf("the rules changed")
+	}
+}
+
+// P2: calls that run at the same time answer as those that run alone.
+func TestCompilesShareNothing(t *testing.T) {
+	want, _, _ := cleave.Compile(lines)
+	var all sync.WaitGroup
+	for range 8 {
+		all.Go(func() {
+			for range 200 {
+				got, no, at := cleave.Compile(lines)
+				if no != api.OK || at != 0 || got == want || !reflect.DeepEqual(got, want) {
+					t.Errorf("Compile answers otherwise beside others")
+					return
+				}
+			}
+		})
+	}
+	all.Wait()
+}
+
+// P2: neither the bytes that are written nor the room behind them change.
+func TestWriteLeavesItsBytesAlone(t *testing.T) {
+	r, _, _ := cleave.Compile(lines)
+	s, _ := r.Open(api.MaxFull)
+	for _, text := range someTexts() {
+		b := append([]byte(text), "spare room"...)
+		kept := bytes.Clone(b)
+		s.Write(b[:len(text)])
+		s.Close()
+		if !bytes.Equal(b, kept) {
+			t.Errorf("Write changed %.40q into %.40q", kept, b)
+		}
+	}
+}
