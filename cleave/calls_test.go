@@ -4,6 +4,7 @@ import (
 	"bytes"
 	"math"
 	"reflect"
+	"slices"
 	"strings"
 	"sync"
 	"testing"
@@ -115,6 +116,84 @@ func TestRulesDoNotChange(t *testing.T) {
 	if !reflect.DeepEqual(r, fresh) {
 		t.Errorf("the rules changed")
 	}
+}
+
+// P1: a long text is cut in one walk, however far the rules look at each of its places.
+func TestCutOfALongTextEnds(t *testing.T) {
+	const n = 1000000
+	text := strings.Repeat("b", n)
+	r := mustCompile(t, "class a = 61; class b = 62; join b (b b)* | (b b)* a; join a any* | any* bad; cut any* | (any any any)* a; join (b / b b)* | b* bad;")
+	if got := r.Cut(text); len(got) != n || got[0] != "b" || got[n-1] != "b" {
+		t.Errorf("%d segments, want %d", len(got), n)
+	}
+	if got := r.Cut(text + "\xff"); len(got) != 1 || got[0] != text+"\xff" {
+		t.Errorf("%d segments, want 1", len(got))
+	}
+}
+
+// P2: the bytes behind the text may change when Cut has answered: the segments do not, and have no part of its memory.
+func TestCutKeepsNothing(t *testing.T) {
+	const text = "one\ntwo\r\n\xff\xe2\x82"
+	for _, rules := range []string{"", "join | ;", lines} {
+		r := mustCompile(t, rules)
+		b := []byte(text)
+		got := r.Cut(unsafe.String(&b[0], len(b)))
+		if string(b) != text {
+			t.Fatalf("Cut wrote into its text: %q", b)
+		}
+		if pointsInto(reflect.ValueOf(got), uintptr(unsafe.Pointer(&b[0])), len(b)) {
+			t.Errorf("by %q segments are a part of the text that was handed in", rules)
+		}
+		if pointsInto(reflect.ValueOf(r), uintptr(unsafe.Pointer(&b[0])), len(b)) {
+			t.Errorf("by %q the rules keep a part of the text", rules)
+		}
+		for i := range b {
+			b[i] = 'x'
+		}
+		if want := r.Cut(text); !slices.Equal(got, want) {
+			t.Errorf("by %q the segments changed with the bytes of their text: %q, want %q", rules, got, want)
+		}
+	}
+}
+
+// P2: the segments are the caller's, who may write over them and into their spare room, and keep them while Cut is asked again.
+func TestSegmentsAreTheCallers(t *testing.T) {
+	r := mustCompile(t, lines)
+	for _, text := range []string{"a\nb\nc", "one\ntwo\nthree\nfour\nfive\n"} {
+		want := slices.Clone(r.Cut(text))
+		kept := r.Cut(text)
+		spoiled := r.Cut(text)
+		room := spoiled[:cap(spoiled)]
+		for i := range room {
+			room[i] = "spoiled"
+		}
+		if got := r.Cut(text); !slices.Equal(got, want) {
+			t.Errorf("Cut answers %q when its segments were written over, want %q", got, want)
+		}
+		r.Cut("other\ntext")
+		if !slices.Equal(kept, want) {
+			t.Errorf("segments that were kept are %q, want %q", kept, want)
+		}
+	}
+}
+
+// P2: Cut answers the same beside others that ask the same rules.
+func TestCutsShareNothing(t *testing.T) {
+	r := mustCompile(t, lines)
+	var all sync.WaitGroup
+	for i := range 8 {
+		text := strings.Repeat("ab\r\n\xff\n", 20+i)
+		want := slices.Clone(mustCompile(t, lines).Cut(text))
+		all.Go(func() {
+			for range 200 {
+				if got := r.Cut(text); !slices.Equal(got, want) {
+					t.Errorf("Cut answers %q beside others, want %q", got, want)
+					return
+				}
+			}
+		})
+	}
+	all.Wait()
 }
 
 // P2: calls that run at the same time answer as those that run alone.

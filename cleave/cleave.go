@@ -2,12 +2,20 @@
 package cleave
 
 import (
+	"strings"
+
 	"cleave/api"
+	"cleave/chars"
+	"cleave/kinds"
+	"cleave/places"
 	"cleave/rules"
 )
 
 // Rules that were compiled.
-type Rules struct{ rules rules.Rules }
+type Rules struct {
+	kinds kinds.Table
+	judge places.Judge
+}
 
 // Stream takes text that comes in pieces.
 type Stream struct{}
@@ -18,11 +26,31 @@ func Compile(text string) (*Rules, api.Errno, int) {
 	if fault != api.OK {
 		return nil, fault, at
 	}
-	return &Rules{read}, api.OK, 0
+	return &Rules{read.Kinds, places.Make(read.List)}, api.OK, 0
 }
 
 // Cut tells the segments of a text (P4).
-func (r *Rules) Cut(text string) []string { return nil }
+func (r *Rules) Cut(text string) []string {
+	if r == nil {
+		return nil
+	}
+	row := chars.Read(text, &r.kinds)
+	return segments(text, row.Sizes, r.judge.Cuts(row.Kinds))
+}
+
+// segments are what stands between the places at which a text is cut. Each is a copy: a piece of the text would share its memory.
+func segments(text string, sizes []uint8, cuts []bool) []string {
+	var told []string
+	begin, end := 0, 0
+	for i, size := range sizes {
+		end += int(size)
+		if cuts[i+1] {
+			told = append(told, strings.Clone(text[begin:end]))
+			begin = end
+		}
+	}
+	return told
+}
 
 // Delay tells how long one may have to wait (P5).
 func (r *Rules) Delay() int { return 0 }

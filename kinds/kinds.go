@@ -2,6 +2,7 @@
 package kinds
 
 import (
+	"cmp"
 	"slices"
 
 	"cleave/api"
@@ -13,13 +14,13 @@ type Kind uint8
 const (
 	Other Kind = api.MaxClasses + iota
 	Bad
-	count
+	Count
 )
 
 // Set has a bit for each Kind: there are so few that a number is enough, and it can be compared.
 type Set uint8
 
-const All Set = 1<<count - 1
+const All Set = 1<<Count - 1
 
 // Only is the set of these kinds.
 func Only(these ...Kind) Set {
@@ -29,6 +30,9 @@ func Only(these ...Kind) Set {
 	}
 	return s
 }
+
+// Has tells whether a kind is in the set.
+func (s Set) Has(k Kind) bool { return s&Only(k) != 0 }
 
 // Span is the code points from First to Last, both in it.
 type Span struct{ First, Last rune }
@@ -40,20 +44,35 @@ type entry struct {
 	kind Kind
 }
 
-// Table tells which code points are of a class. No two of its entries meet, so their order tells nothing.
+// Table tells which code points are of a class. No two of its entries meet, and they stand in order, so that one of them can be found without a look at all.
 type Table struct{ entries []entry }
 
 // Add gives the code points of a span to a class. It answers false, and leaves the table as it is, where that may not be.
 func (t *Table) Add(s Span, class Kind) bool {
 	// No character has one of these code points: UTF-8 has no form for them.
 	surrogates := Span{0xD800, 0xDFFF}
-	if s.Last < s.First || s.meets(surrogates) || t.meets(s) {
+	if s.Last < s.First || s.meets(surrogates) {
 		return false
 	}
-	t.entries = append(t.entries, entry{s, class})
+	at := t.firstThatEndsFrom(s.First)
+	if at < len(t.entries) && t.entries[at].meets(s) {
+		return false
+	}
+	t.entries = slices.Insert(t.entries, at, entry{s, class})
 	return true
 }
 
-func (t *Table) meets(s Span) bool {
-	return slices.ContainsFunc(t.entries, func(e entry) bool { return e.meets(s) })
+// Of is the kind of the character with that code point.
+func (t *Table) Of(code rune) Kind {
+	at := t.firstThatEndsFrom(code)
+	if at < len(t.entries) && t.entries[at].First <= code {
+		return t.entries[at].kind
+	}
+	return Other
+}
+
+// firstThatEndsFrom is where the first entry stands that does not end ahead of a code point.
+func (t *Table) firstThatEndsFrom(code rune) int {
+	at, _ := slices.BinarySearchFunc(t.entries, code, func(e entry, code rune) int { return cmp.Compare(e.Last, code) })
+	return at
 }

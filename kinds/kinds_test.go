@@ -1,9 +1,12 @@
 package kinds
 
 import (
+	"math/rand"
 	"slices"
 	"testing"
 	"unicode/utf8"
+
+	"cleave/api"
 )
 
 func TestSetsAreOfTheKindsNamed(t *testing.T) {
@@ -11,7 +14,7 @@ func TestSetsAreOfTheKindsNamed(t *testing.T) {
 		t.Errorf("Only() = %b", s)
 	}
 	var sum Set
-	for k := range count {
+	for k := range Count {
 		one := Only(k)
 		if one == 0 || one&sum != 0 {
 			t.Errorf("Only(%d) = %b, not one kind of its own", k, one)
@@ -21,8 +24,11 @@ func TestSetsAreOfTheKindsNamed(t *testing.T) {
 	if sum != All {
 		t.Errorf("all kinds are %b, All is %b", sum, All)
 	}
-	if s := Only(0, Other, Bad); s != Only(0)|Only(Other)|Only(Bad) {
-		t.Errorf("Only of three = %b", s)
+	three := Only(0, Other, Bad)
+	for k := range Count {
+		if three.Has(k) != (k == 0 || k == Other || k == Bad) {
+			t.Errorf("Only(0, Other, Bad) has %d: %v", k, three.Has(k))
+		}
 	}
 }
 
@@ -36,11 +42,48 @@ func TestAddKeepsWhatMayBe(t *testing.T) {
 	var table Table
 	spans := []Span{{'a', 'z'}, {'A', 'Z'}, {'[', '`'}, {0, 0}, {utf8.MaxRune, utf8.MaxRune}, {0xE000, 0xE000}, {0xD700, 0xD7FF}}
 	for i, s := range spans {
-		if !table.Add(s, Kind(i%3)) {
+		class := Kind(i % 3)
+		if !table.Add(s, class) {
 			t.Errorf("Add(%X) = false", s)
 		}
-		if e := table.entries[len(table.entries)-1]; e != (entry{s, Kind(i % 3)}) {
-			t.Errorf("Add(%X) keeps %v", s, e)
+		if table.Of(s.First) != class || table.Of(s.Last) != class {
+			t.Errorf("Add(%X) gives %d and %d, want %d", s, table.Of(s.First), table.Of(s.Last), class)
+		}
+	}
+	for _, code := range []rune{1, '@', '{', 0xD6FF, 0xE001, utf8.MaxRune - 1} {
+		if k := table.Of(code); k != Other {
+			t.Errorf("Of(%X) = %d beside all spans", code, k)
+		}
+	}
+}
+
+// The other way asks each span in turn.
+func TestOfIsTheSpansOwnClass(t *testing.T) {
+	rnd := rand.New(rand.NewSource(1))
+	for range 300 {
+		var table Table
+		var added []entry
+		for range rnd.Intn(12) {
+			first := rune(rnd.Intn(60))
+			e := entry{Span{first, first + rune(rnd.Intn(6))}, Kind(rnd.Intn(api.MaxClasses))}
+			meets := slices.ContainsFunc(added, func(a entry) bool { return max(a.First, e.First) <= min(a.Last, e.Last) })
+			if table.Add(e.Span, e.kind) == meets {
+				t.Fatalf("Add(%v) = %v behind %v", e, !meets, added)
+			}
+			if !meets {
+				added = append(added, e)
+			}
+		}
+		for code := range rune(70) {
+			want := Other
+			for _, a := range added {
+				if a.First <= code && code <= a.Last {
+					want = a.kind
+				}
+			}
+			if k := table.Of(code); k != want {
+				t.Fatalf("Of(%d) = %d, want %d by %v", code, k, want, added)
+			}
 		}
 	}
 }
