@@ -99,6 +99,14 @@ func pointsInto(v reflect.Value, from uintptr, n int) bool {
 	return false
 }
 
+// checkSameRules wants rules that are the same, and that answer the same.
+func checkSameRules(t *testing.T, one, two *cleave.Rules, text string) {
+	t.Helper()
+	if one == two || !reflect.DeepEqual(one, two) || !slices.Equal(one.Cut(text), two.Cut(text)) {
+		t.Errorf("the rules changed")
+	}
+}
+
 // P2: rules do not change, whatever is asked of them and of others.
 func TestRulesDoNotChange(t *testing.T) {
 	r, _, _ := cleave.Compile(lines)

@@ -4,6 +4,7 @@ package cleave
 import (
 	"strings"
 
+	"cleave/ahead"
 	"cleave/api"
 	"cleave/chars"
 	"cleave/kinds"
@@ -13,8 +14,9 @@ import (
 
 // Rules that were compiled.
 type Rules struct {
-	kinds kinds.Table
-	judge places.Judge
+	kinds   kinds.Table
+	judge   places.Judge
+	outlook ahead.Outlook
 }
 
 // Stream takes text that comes in pieces.
@@ -26,7 +28,11 @@ func Compile(text string) (*Rules, api.Errno, int) {
 	if fault != api.OK {
 		return nil, fault, at
 	}
-	return &Rules{read.Kinds, places.Make(read.List)}, api.OK, 0
+	return &Rules{
+		kinds:   read.Kinds,
+		judge:   places.Make(read.List),
+		outlook: ahead.Make(read.List, read.Kinds.Possible()),
+	}, api.OK, 0
 }
 
 // Cut tells the segments of a text (P4).
@@ -53,7 +59,12 @@ func segments(text string, sizes []uint8, cuts []bool) []string {
 }
 
 // Delay tells how long one may have to wait (P5).
-func (r *Rules) Delay() int { return 0 }
+func (r *Rules) Delay() int {
+	if r == nil {
+		return 0
+	}
+	return r.outlook.Delay()
+}
 
 // Open begins a stream (P6).
 func (r *Rules) Open(full int) (*Stream, api.Errno) { return nil, api.OK }

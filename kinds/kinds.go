@@ -4,6 +4,7 @@ package kinds
 import (
 	"cmp"
 	"slices"
+	"unicode/utf8"
 
 	"cleave/api"
 )
@@ -39,6 +40,11 @@ type Span struct{ First, Last rune }
 
 func (s Span) meets(other Span) bool { return s.First <= other.Last && other.First <= s.Last }
 
+func (s Span) size() int { return int(s.Last-s.First) + 1 }
+
+// No character has one of these code points: UTF-8 has no form for them.
+var surrogates = Span{0xD800, 0xDFFF}
+
 type entry struct {
 	Span
 	kind Kind
@@ -49,8 +55,6 @@ type Table struct{ entries []entry }
 
 // Add gives the code points of a span to a class. It answers false, and leaves the table as it is, where that may not be.
 func (t *Table) Add(s Span, class Kind) bool {
-	// No character has one of these code points: UTF-8 has no form for them.
-	surrogates := Span{0xD800, 0xDFFF}
 	if s.Last < s.First || s.meets(surrogates) {
 		return false
 	}
@@ -75,4 +79,24 @@ func (t *Table) Of(code rune) Kind {
 func (t *Table) firstThatEndsFrom(code rune) int {
 	at, _ := slices.BinarySearchFunc(t.entries, code, func(e entry, code rune) int { return cmp.Compare(e.Last, code) })
 	return at
+}
+
+// Possible is the kinds that characters have, in order. Each class has a character, and a bad one may always come; but if the classes have them all, none is left that is Other.
+func (t *Table) Possible() []Kind {
+	there := Only(Bad)
+	left := utf8.MaxRune + 1 - surrogates.size()
+	for _, e := range t.entries {
+		there |= Only(e.kind)
+		left -= e.size()
+	}
+	if left > 0 {
+		there |= Only(Other)
+	}
+	var possible []Kind
+	for k := range Count {
+		if there.Has(k) {
+			possible = append(possible, k)
+		}
+	}
+	return possible
 }

@@ -105,3 +105,34 @@ func TestAddRefusesWhatMayNotBe(t *testing.T) {
 		}
 	}
 }
+
+func TestPossibleIsWhatCharactersHave(t *testing.T) {
+	for _, c := range []struct {
+		entries []entry
+		want    []Kind
+	}{
+		{nil, []Kind{Other, Bad}},
+		{[]entry{{Span{'a', 'a'}, 0}}, []Kind{0, Other, Bad}},
+		{[]entry{{Span{'b', 'b'}, 1}, {Span{'a', 'a'}, 0}, {Span{'c', 'z'}, 1}}, []Kind{0, 1, Other, Bad}},
+		{[]entry{{Span{'a', 'a'}, 5}, {Span{'b', 'b'}, 4}, {Span{'c', 'c'}, 3}, {Span{'d', 'd'}, 2}, {Span{'e', 'e'}, 1}, {Span{'f', 'f'}, 0}}, []Kind{0, 1, 2, 3, 4, 5, Other, Bad}},
+		// All that there are.
+		{[]entry{{Span{0, 0xD7FF}, 0}, {Span{0xE000, utf8.MaxRune}, 0}}, []Kind{0, Bad}},
+		{[]entry{{Span{0xE000, utf8.MaxRune}, 0}, {Span{0x80, 0xD7FF}, 2}, {Span{0, 0x7F}, 1}}, []Kind{0, 1, 2, Bad}},
+		// All but one.
+		{[]entry{{Span{1, 0xD7FF}, 0}, {Span{0xE000, utf8.MaxRune}, 0}}, []Kind{0, Other, Bad}},
+		{[]entry{{Span{0, 0xD7FE}, 0}, {Span{0xE000, utf8.MaxRune}, 0}}, []Kind{0, Other, Bad}},
+		{[]entry{{Span{0, 0xD7FF}, 0}, {Span{0xE001, utf8.MaxRune}, 0}}, []Kind{0, Other, Bad}},
+		{[]entry{{Span{0, 0xD7FF}, 0}, {Span{0xE000, utf8.MaxRune - 1}, 0}}, []Kind{0, Other, Bad}},
+		{[]entry{{Span{0, 'a' - 1}, 0}, {Span{'a' + 1, 0xD7FF}, 0}, {Span{0xE000, utf8.MaxRune}, 1}}, []Kind{0, 1, Other, Bad}},
+	} {
+		var table Table
+		for _, e := range c.entries {
+			if !table.Add(e.Span, e.kind) {
+				t.Fatalf("Add(%X) = false", e)
+			}
+		}
+		if got := table.Possible(); !slices.Equal(got, c.want) {
+			t.Errorf("of %X the possible kinds are %v, want %v", c.entries, got, c.want)
+		}
+	}
+}

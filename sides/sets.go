@@ -39,9 +39,21 @@ func back(m parts.Machine) graph {
 // set is the states at which one stands at once. Two sets are one if the same states are in them.
 type set map[int]struct{}
 
+func (s set) has(state int) bool {
+	_, there := s[state]
+	return there
+}
+
+// from is a set with one state, and those to which it leads without a character.
+func (g graph) from(state int) set {
+	s := set{}
+	g.stand(s, state)
+	return s
+}
+
 // stand adds a state to a set, and those to which it leads without a character. A state that is there already has brought them: so this ends in loops too.
 func (g graph) stand(in set, at int) {
-	if _, there := in[at]; there {
+	if in.has(at) {
 		return
 	}
 	in[at] = struct{}{}

@@ -10,23 +10,28 @@ import (
 )
 
 // Left matches at a place if its expression matches some end of what stands ahead: so it is read from the front.
-type Left struct{ spots table }
+type Left struct{ table }
 
 // Right matches at a place if its expression matches some beginning of what stands behind. Read from the back, that is what Left is: so each place costs one step, however far the expression looks.
-type Right struct{ spots table }
+type Right struct{ table }
 
-func MakeLeft(m parts.Machine) Left { return Left{makeTable(forth(m), m.First, parts.Last)} }
+// Onward is a right side too, but of one place alone, and read from there on: so it can be asked while characters still come. Once it matches it stays so, whatever comes.
+type Onward struct{ table }
 
-func MakeRight(m parts.Machine) Right { return Right{makeTable(back(m), parts.Last, m.First)} }
+func MakeLeft(m parts.Machine) Left { return Left{anywhere(forth(m), m.First, parts.Last)} }
+
+func MakeRight(m parts.Machine) Right { return Right{anywhere(back(m), parts.Last, m.First)} }
+
+func MakeOnward(m parts.Machine) Onward { return Onward{fromHere(forth(m), m.First, parts.Last)} }
 
 // Matches tells it of the place ahead of each character, and of the one behind the last.
 func (l Left) Matches(row []kinds.Kind) []bool {
 	told := make([]bool, len(row)+1)
-	at := 0
-	told[0] = l.spots[at].match
+	at := Begin
+	told[0] = l.Match(at)
 	for i, k := range row {
-		at = l.spots[at].next[k]
-		told[i+1] = l.spots[at].match
+		at = l.Next(at, k)
+		told[i+1] = l.Match(at)
 	}
 	return told
 }
@@ -34,11 +39,11 @@ func (l Left) Matches(row []kinds.Kind) []bool {
 // Matches tells it of the place ahead of each character, and of the one behind the last.
 func (r Right) Matches(row []kinds.Kind) []bool {
 	told := make([]bool, len(row)+1)
-	at := 0
-	told[len(row)] = r.spots[at].match
+	at := Begin
+	told[len(row)] = r.Match(at)
 	for i, k := range slices.Backward(row) {
-		at = r.spots[at].next[k]
-		told[i] = r.spots[at].match
+		at = r.Next(at, k)
+		told[i] = r.Match(at)
 	}
 	return told
 }
@@ -49,23 +54,53 @@ type spot struct {
 	next  [kinds.Count]int
 }
 
-// table is the sets of states that can be come to, from the one at spot 0. There are few: what is in a set hangs on which of the expression's atoms the last character was taken by, and of these a side has no more than MaxAtoms.
+// table is the sets of states that can be come to. There are few: what is in a set hangs on which of the expression's atoms the last character was taken by, and of these a side has no more than MaxAtoms.
 type table []spot
 
-// makeTable walks a graph from a state to a goal. The walk may begin at any character, so the first state is in each set.
-func makeTable(g graph, first, goal int) table {
-	begin := set{}
-	g.stand(begin, first)
-	sets := []set{begin}
+const (
+	Begin = iota // the spot of every side at which no character is read yet
+	Gone         // the spot of an Onward that can match no more, whatever comes
+)
+
+// Match tells whether a side that stands at a spot matches.
+func (t table) Match(at int) bool { return t[at].match }
+
+// Next is the spot to which a character leads.
+func (t table) Next(at int, k kinds.Kind) int { return t[at].next[k] }
+
+// anywhere is the table of a walk that may begin at any character: so the first state is in each set.
+func anywhere(g graph, first, goal int) table {
+	next := func(now set, k kinds.Kind) set {
+		then := g.step(now, k)
+		g.stand(then, first)
+		return then
+	}
+	return makeTable(next, goal, g.from(first))
+}
+
+// fromHere is the table of a walk that begins once. What else is in a set does not matter when the goal is: so such a set leads to itself, and all that are come to are one.
+func fromHere(g graph, first, goal int) table {
+	next := func(now set, k kinds.Kind) set {
+		if now.has(goal) {
+			return now
+		}
+		then := g.step(now, k)
+		if then.has(goal) {
+			return set{goal: {}}
+		}
+		return then
+	}
+	return makeTable(next, goal, g.from(first), set{})
+}
+
+// makeTable finds what can be come to from some sets, which have the first spots.
+func makeTable(next func(now set, k kinds.Kind) set, goal int, sets ...set) table {
 	var t table
 	for len(t) < len(sets) {
 		now := sets[len(t)]
-		var s spot
-		_, s.match = now[goal]
+		s := spot{match: now.has(goal)}
 		for k := range kinds.Count {
-			next := g.step(now, k)
-			g.stand(next, first)
-			sets, s.next[k] = find(sets, next)
+			sets, s.next[k] = find(sets, next(now, k))
 		}
 		t = append(t, s)
 	}

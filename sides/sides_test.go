@@ -100,6 +100,53 @@ func TestSidesMatchAtTheirPlaces(t *testing.T) {
 	}
 }
 
+func TestOnwardMatchesFromWhereABeginningDoes(t *testing.T) {
+	rnd := rand.New(rand.NewSource(4))
+	for range 1500 {
+		m := parts.Make(randomPart(rnd, 1+rnd.Intn(api.MaxAtoms), rnd.Intn(4)))
+		onward := MakeOnward(m)
+		for n := range 9 {
+			row := randomRow(rnd, n)
+			ends := endsFrom(m, row, 0)
+			at, gone := Begin, Gone
+			for i := range n + 1 {
+				if got, want := onward.Match(at), slices.Contains(ends[:i+1], true); got != want {
+					t.Fatalf("onward of %v at %v, %d known: %v, want %v", m, row, i, got, want)
+				}
+				if gone != Gone || onward.Match(gone) {
+					t.Fatalf("onward of %v can match when it is gone", m)
+				}
+				if i < n {
+					at, gone = onward.Next(at, row[i]), onward.Next(gone, row[i])
+				}
+			}
+		}
+	}
+}
+
+// What has matched stands at one spot, and what can match no more at another: else what is known of places would be more than can be told apart.
+func TestOnwardHasOneSpotThatMatches(t *testing.T) {
+	rnd := rand.New(rand.NewSource(5))
+	for range 300 {
+		m := parts.Make(randomPart(rnd, api.MaxAtoms, 3))
+		onward := MakeOnward(m).table
+		matching := 0
+		for _, s := range onward {
+			if s.match {
+				matching++
+			}
+		}
+		if matching != 1 || len(onward) > 1<<api.MaxAtoms+1 {
+			t.Fatalf("%d of %d spots match", matching, len(onward))
+		}
+		for range 5 {
+			if !slices.Equal(MakeOnward(m).table, onward) {
+				t.Fatalf("two tables of one machine are not the same: %v", m)
+			}
+		}
+	}
+}
+
 func TestASideWithoutPartsMatchesEverywhere(t *testing.T) {
 	m := parts.Make(parts.Row())
 	for _, row := range [][]kinds.Kind{nil, {0}, {kinds.Bad, kinds.Other, 5}} {
@@ -114,12 +161,12 @@ func TestTablesHaveOneSpotForASet(t *testing.T) {
 	rnd := rand.New(rand.NewSource(2))
 	for range 300 {
 		m := parts.Make(randomPart(rnd, api.MaxAtoms, 3))
-		left, right := MakeLeft(m).spots, MakeRight(m).spots
+		left, right := MakeLeft(m).table, MakeRight(m).table
 		if most := 1 << api.MaxAtoms; len(left) > most || len(right) > most {
 			t.Fatalf("%d and %d spots", len(left), len(right))
 		}
 		for range 5 {
-			if !slices.Equal(MakeLeft(m).spots, left) || !slices.Equal(MakeRight(m).spots, right) {
+			if !slices.Equal(MakeLeft(m).table, left) || !slices.Equal(MakeRight(m).table, right) {
 				t.Fatalf("two tables of one machine are not the same: %v", m)
 			}
 		}
