@@ -9,7 +9,14 @@ import (
 // Outlook is all that can be known of a place, and where more characters lead from there.
 type Outlook struct {
 	possible []kinds.Kind
+	heads    []head
 	views    []view
+}
+
+// head is one thing that can stand ahead of a place: start is the view of a place behind which no character is known yet. The first head is the beginning of a text, which is no place and has no view.
+type head struct {
+	start int
+	next  [kinds.Count]int
 }
 
 // view is one thing that can be known of a place: whether it is cut if the text ends now, and whether it is so, or is not, whatever comes.
@@ -23,18 +30,38 @@ func Make(list []rules.Rule, possible []kinds.Kind) Outlook {
 	j := makeJudge(list)
 	o := Outlook{possible: possible}
 	var met found[known]
-	for _, start := range j.starts(possible) {
-		met.find(start)
+	o.lookBack(j, &met)
+	o.lookOn(j, &met)
+	o.settle()
+	return o
+}
+
+// lookBack finds all that can stand ahead of a place, and what is known of the place by that alone.
+func (o *Outlook) lookBack(j judge, met *found[known]) {
+	var pasts found[past]
+	pasts.find(past{})
+	for i := 0; i < len(pasts.list); i++ {
+		now := pasts.list[i]
+		var h head
+		if now.begun {
+			h.start = met.find(j.start(now))
+		}
+		for _, k := range o.possible {
+			h.next[k] = pasts.find(j.later(now, k))
+		}
+		o.heads = append(o.heads, h)
 	}
+}
+
+// lookOn finds all that can be known of a place from there on.
+func (o *Outlook) lookOn(j judge, met *found[known]) {
 	for i := 0; i < len(met.list); i++ {
 		v := view{cut: j.cuts(met.list[i])}
-		for _, k := range possible {
+		for _, k := range o.possible {
 			v.next[k] = met.find(j.next(met.list[i], k))
 		}
 		o.views = append(o.views, v)
 	}
-	o.settle()
-	return o
 }
 
 func (o *Outlook) settle() {

@@ -95,7 +95,7 @@ func TestRulesThatDoNotCountAreForgotten(t *testing.T) {
 		{"join | any any; cut | any any;", "join | any any any* bad;"},
 	} {
 		alone, all := mustMake(t, classes+c.first), mustMake(t, classes+c.first+c.more)
-		if !reflect.DeepEqual(all, alone) {
+		if !slices.Equal(all.views, alone.views) {
 			t.Errorf("by %q: %d views with rules that do not count, %d without", c.first, len(all.views), len(alone.views))
 		}
 	}

@@ -27,39 +27,32 @@ func makeJudge(list []rules.Rule) judge {
 // spots has, for each rule, where one of its sides stands.
 type spots [api.MaxRules]int
 
+// past is what stands ahead of a place, as left sides see it. That no character does is told apart: the beginning of a text is no place.
+type past struct {
+	begun bool
+	lefts spots
+}
+
 // known is what is known of a place. That no character behind it is known is told apart: the text may end there, and then no rule is asked.
 type known struct {
 	behind bool
 	rights spots
 }
 
-// starts is all that can be known of places behind which no character is. It hangs on the left sides that match there at the same time, and a place has a character ahead of it.
-func (j judge) starts(possible []kinds.Kind) []known {
-	var lefts found[spots]
-	var starts found[known]
-	lefts.find(spots{})
-	for i := 0; i < len(lefts.list); i++ {
-		for _, k := range possible {
-			next := j.nextLefts(lefts.list[i], k)
-			lefts.find(next)
-			starts.find(j.start(next))
-		}
-	}
-	return starts.list
-}
-
-func (j judge) nextLefts(now spots, k kinds.Kind) spots {
+// later is what stands ahead when one more character does.
+func (j judge) later(now past, k kinds.Kind) past {
+	now.begun = true
 	for i, r := range j {
-		now[i] = r.left.Next(now[i], k)
+		now.lefts[i] = r.left.Next(now.lefts[i], k)
 	}
 	return now
 }
 
-// start is what is known of a place by what stands ahead of it.
-func (j judge) start(lefts spots) known {
+// start is what is known of a place by what stands ahead of it: which left sides match there at the same time.
+func (j judge) start(ahead past) known {
 	var now known
 	for i, r := range j {
-		if !r.left.Match(lefts[i]) {
+		if !r.left.Match(ahead.lefts[i]) {
 			now.rights[i] = sides.Gone
 		}
 	}

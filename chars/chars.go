@@ -25,6 +25,15 @@ func Read(text string, table *kinds.Table) Row {
 	return row
 }
 
+// Next is the first character of a text of which more may come: its kind, and how many bytes it has; 0 bytes, if it is not known yet.
+func Next(text []byte, table *kinds.Table) (kinds.Kind, int) {
+	// What has a well-formed sequence at its front is full, and so is what cannot become one, whatever comes.
+	if !utf8.FullRune(text) {
+		return 0, 0
+	}
+	return first(string(text[:min(len(text), utf8.UTFMax)]), table)
+}
+
 func first(text string, table *kinds.Table) (kinds.Kind, int) {
 	code, size := utf8.DecodeRuneInString(text)
 	// The code point FFFD is a character like others, if it stands there in its own three bytes.

@@ -73,6 +73,60 @@ func TestCharactersAreThoseOfTheTable(t *testing.T) {
 	}
 }
 
+// secondPending tells by the table's rows whether a text is the beginning of a character, and no more.
+func secondPending(text string) bool {
+	for _, row := range wellFormed {
+		n := 0
+		for n < len(row) && n < len(text) && row[n][0] <= text[n] && text[n] <= row[n][1] {
+			n++
+		}
+		if n == len(text) && n < len(row) {
+			return true
+		}
+	}
+	return false
+}
+
+func checkNext(t *testing.T, text string) {
+	t.Helper()
+	// The room behind the text is no part of it.
+	b := []byte(text + "\x80\x80\x80")[:len(text)]
+	kind, size := Next(b, &kinds.Table{})
+	if secondPending(text) {
+		if kind != 0 || size != 0 {
+			t.Fatalf("Next(%q) = %d, %d bytes, but it is not known yet", text, kind, size)
+		}
+		return
+	}
+	wantKind, wantSize := first(text, &kinds.Table{})
+	if kind != wantKind || size != wantSize {
+		t.Fatalf("Next(%q) = %d, %d bytes; want %d, %d bytes", text, kind, size, wantKind, wantSize)
+	}
+}
+
+func TestACharacterIsKnownAsSoonAsItCanBe(t *testing.T) {
+	if kind, size := Next(nil, &kinds.Table{}); kind != 0 || size != 0 {
+		t.Errorf("no bytes are known to be %d, of %d bytes", kind, size)
+	}
+	for a := range 0x100 {
+		checkNext(t, string([]byte{byte(a)}))
+		for b := range 0x100 {
+			checkNext(t, string([]byte{byte(a), byte(b)}))
+		}
+	}
+	for _, a := range edges() {
+		for _, b := range edges() {
+			for _, c := range edges() {
+				checkNext(t, string([]byte{a, b, c}))
+				for _, d := range edges() {
+					checkNext(t, string([]byte{a, b, c, d}))
+					checkNext(t, string([]byte{a, b, c, d, 0x80}))
+				}
+			}
+		}
+	}
+}
+
 // Each code point is looked for in the table by its own number.
 func TestCodePointsAreTheirOwn(t *testing.T) {
 	for _, code := range []rune{0, 'a', 0x7F, 0x80, 0xE9, 0x7FF, 0x800, 0xD7FF, 0xE000, utf8.RuneError, 0xFFFF, 0x10000, 0x1F600, utf8.MaxRune} {
@@ -80,6 +134,9 @@ func TestCodePointsAreTheirOwn(t *testing.T) {
 		table.Add(kinds.Span{First: code, Last: code}, 3)
 		if kind, size := first(string(code)+"x", &table); kind != 3 || size != len(string(code)) {
 			t.Errorf("the character %X is of kind %d and has %d bytes", code, kind, size)
+		}
+		if kind, size := Next([]byte(string(code)), &table); kind != 3 || size != len(string(code)) {
+			t.Errorf("the next character %X is of kind %d and has %d bytes", code, kind, size)
 		}
 	}
 }

@@ -224,15 +224,20 @@ func TestCompilesShareNothing(t *testing.T) {
 
 // P2: neither the bytes that are written nor the room behind them change.
 func TestWriteLeavesItsBytesAlone(t *testing.T) {
-	r, _, _ := cleave.Compile(lines)
-	s, _ := r.Open(api.MaxFull)
-	for _, text := range someTexts() {
-		b := append([]byte(text), "spare room"...)
-		kept := bytes.Clone(b)
-		s.Write(b[:len(text)])
-		s.Close()
-		if !bytes.Equal(b, kept) {
-			t.Errorf("Write changed %.40q into %.40q", kept, b)
+	for _, rules := range []string{"", "join | ;", lines} {
+		r := mustCompile(t, rules)
+		one, _ := r.Open(api.MaxFull)
+		for _, text := range someTexts() {
+			alone, _ := r.Open(api.MaxFull)
+			for _, s := range []*cleave.Stream{one, alone} {
+				b := append([]byte(text), "spare room"...)
+				kept := bytes.Clone(b)
+				s.Write(b[:len(text)])
+				alone.Close()
+				if !bytes.Equal(b, kept) {
+					t.Errorf("Write changed %.40q into %.40q", kept, b)
+				}
+			}
 		}
 	}
 }

@@ -7,6 +7,7 @@ import (
 	"cleave/ahead"
 	"cleave/api"
 	"cleave/chars"
+	"cleave/flow"
 	"cleave/kinds"
 	"cleave/places"
 	"cleave/rules"
@@ -20,7 +21,11 @@ type Rules struct {
 }
 
 // Stream takes text that comes in pieces.
-type Stream struct{}
+type Stream struct {
+	full    int
+	flow    *flow.Flow // nil, when the stream takes no more: nothing is kept then
+	wasFull bool
+}
 
 // Compile reads rules (P3).
 func Compile(text string) (*Rules, api.Errno, int) {
@@ -67,10 +72,48 @@ func (r *Rules) Delay() int {
 }
 
 // Open begins a stream (P6).
-func (r *Rules) Open(full int) (*Stream, api.Errno) { return nil, api.OK }
+func (r *Rules) Open(full int) (*Stream, api.Errno) {
+	if full < 1 || full > api.MaxFull {
+		return nil, api.ErrLong
+	}
+	if r == nil {
+		// Without rules there are no segments, as in Cut: so the stream takes nothing.
+		return &Stream{}, api.OK
+	}
+	return &Stream{full: full, flow: flow.Make(&r.kinds, &r.outlook)}, api.OK
+}
 
 // Write takes bytes, and tells segments (P6).
-func (s *Stream) Write(b []byte) ([]string, api.Errno) { return nil, api.OK }
+func (s *Stream) Write(b []byte) ([]string, api.Errno) {
+	if fault := s.fault(); fault != api.OK {
+		return nil, fault
+	}
+	told := s.flow.Take(b)
+	if s.flow.Untold() > s.full {
+		s.flow, s.wasFull = nil, true
+	}
+	return told, s.fault()
+}
 
 // Close tells the last segments (P6).
-func (s *Stream) Close() ([]string, api.Errno) { return nil, api.OK }
+func (s *Stream) Close() ([]string, api.Errno) {
+	if fault := s.fault(); fault != api.OK {
+		return nil, fault
+	}
+	told := s.flow.End()
+	s.flow = nil
+	return told, api.OK
+}
+
+// fault is why a stream takes no more (P7).
+func (s *Stream) fault() api.Errno {
+	switch {
+	case s == nil:
+		return api.ErrClosed
+	case s.wasFull:
+		return api.ErrFull
+	case s.flow == nil:
+		return api.ErrClosed
+	}
+	return api.OK
+}

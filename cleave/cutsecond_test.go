@@ -27,16 +27,25 @@ type secondRule struct {
 const secondClasses = "class A = 61, 63, 1F600-1F64F; class B = 62, E9; "
 
 func secondLetters(text string) (letters string, sizes []int) {
+	return secondLettersBy(text, func(code rune) string {
+		switch {
+		case code == 'a' || code == 'c' || 0x1F600 <= code && code <= 0x1F64F:
+			return "A"
+		case code == 'b' || code == 0xE9:
+			return "B"
+		}
+		return "o"
+	})
+}
+
+func secondLettersBy(text string, letterOf func(code rune) string) (letters string, sizes []int) {
 	for len(text) > 0 {
 		code, size := utf8.DecodeRuneInString(text)
-		letter := "o"
-		switch {
-		case code == utf8.RuneError && size == 1:
+		letter := ""
+		if code == utf8.RuneError && size == 1 {
 			letter, size = "x", secondBadSize(text)
-		case code == 'a' || code == 'c' || 0x1F600 <= code && code <= 0x1F64F:
-			letter = "A"
-		case code == 'b' || code == 0xE9:
-			letter = "B"
+		} else {
+			letter = letterOf(code)
 		}
 		letters += letter
 		sizes = append(sizes, size)

@@ -264,6 +264,9 @@ func (s *secondDelay) delay() int {
 	return -1
 }
 
+// fullClasses leave no character that is other.
+const fullClasses = "class A = 61, 63-D7FF; class B = E000-10FFFF, 62, 0-60; "
+
 // P5, at random rules: with other, and without.
 func TestDelayIsAsTheOtherWay(t *testing.T) {
 	rnd := rand.New(rand.NewSource(5))
@@ -273,7 +276,7 @@ func TestDelayIsAsTheOtherWay(t *testing.T) {
 		letters := "ABox"
 		if i%4 == 0 {
 			letters = "ABx"
-			s.text = strings.Replace(s.text, secondClasses, "class A = 61, 63-D7FF; class B = E000-10FFFF, 62, 0-60; ", 1)
+			s.text = strings.Replace(s.text, secondClasses, fullClasses, 1)
 		}
 		if len(s.text) > api.MaxText {
 			continue
